@@ -1,0 +1,123 @@
+package sprigs
+
+import (
+	"strings"
+	"sync"
+	"testing"
+
+	"sprigs/api"
+)
+
+// ofOne and ofTwo are the calls that take stamps; the first result tells
+// whether all results but the error are 0, false or empty.
+func ofOne(call string, stamp string) (bool, api.Errno) {
+	switch call {
+	case "Fork":
+		a, b, errno := Fork(stamp)
+		return a == "" && b == "", errno
+	case "Peek":
+		s, errno := Peek(stamp)
+		return s == "", errno
+	case "Share":
+		n, errno := Share(stamp)
+		return n == 0, errno
+	case "Event":
+		s, errno := Event(stamp)
+		return s == "", errno
+	default:
+		s, errno := Encode(stamp)
+		return s == "", errno
+	}
+}
+
+func ofTwo(call string, a, b string) (bool, api.Errno) {
+	if call == "Join" {
+		s, errno := Join(a, b)
+		return s == "", errno
+	}
+	is, errno := Leq(a, b)
+	return !is, errno
+}
+
+func callsOfOne() []string { return []string{"Fork", "Peek", "Share", "Event", "Encode"} }
+func callsOfTwo() []string { return []string{"Join", "Leq"} }
+
+// wrongStamps has one for each error of Check.
+func wrongStamps() []string {
+	return []string{strings.Repeat("1", api.MaxText+1), "1;x", "1;(1099511627776,0,1)", "(1,1);0"}
+}
+
+func TestCallsAnswerErrorsOfCheck(t *testing.T) {
+	for _, wrong := range wrongStamps() {
+		want, _ := Check(wrong)
+		for _, call := range callsOfOne() {
+			if empty, errno := ofOne(call, wrong); errno != want || !empty {
+				t.Errorf("P3, P1: %s(%.30q): %d (empty: %v), want %d", call, wrong, errno, empty, want)
+			}
+		}
+		for _, call := range callsOfTwo() {
+			if empty, errno := ofTwo(call, wrong, "0;0"); errno != want || !empty {
+				t.Errorf("P3, P1: %s(%.30q, 0;0): %d (empty: %v), want %d", call, wrong, errno, empty, want)
+			}
+			if empty, errno := ofTwo(call, "0;0", wrong); errno != want || !empty {
+				t.Errorf("P3, P1: %s(0;0, %.30q): %d (empty: %v), want %d", call, wrong, errno, empty, want)
+			}
+		}
+	}
+}
+
+func TestFirstStampsErrorComesFirst(t *testing.T) {
+	for _, a := range wrongStamps() {
+		want, _ := Check(a)
+		for _, b := range wrongStamps() {
+			for _, call := range callsOfTwo() {
+				if _, errno := ofTwo(call, a, b); errno != want {
+					t.Errorf("P1: %s(%.30q, %.30q): %d, want %d", call, a, b, errno, want)
+				}
+			}
+		}
+	}
+}
+
+// TestAllCallsEnd fails by a panic, if a call panics.
+func TestAllCallsEnd(t *testing.T) {
+	stamp := "((0,1),(1,(0,1)));(12,(0,(3,0,1),0),(7,0,1099511627))"
+	for place := range len(stamp) {
+		for b := range 256 {
+			changed := stamp[:place] + string([]byte{byte(b)}) + stamp[place+1:]
+			errno, at := Check(changed)
+			if !strings.Contains("0123456789(),;", changed[place:place+1]) && (errno != api.ErrText || at != place) {
+				t.Errorf("P3: Check(%q) = %d, %d, want ErrText, %d", changed, errno, at, place)
+			}
+			for _, call := range callsOfOne() {
+				ofOne(call, changed)
+			}
+			for _, call := range callsOfTwo() {
+				ofTwo(call, changed, stamp)
+				ofTwo(call, stamp, changed)
+			}
+			Decode(changed)
+		}
+	}
+}
+
+func TestCheckHangsOnItsArgumentAlone(t *testing.T) {
+	texts := append(wrongStamps(), "1;0", "(1,0);(3,0,4)", "1;(0,0,0)", "1;01", "")
+	var first []checked
+	for _, text := range texts {
+		errno, place := Check(text)
+		first = append(first, checked{text, errno, place})
+	}
+	var all sync.WaitGroup
+	for start := range first {
+		all.Go(func() {
+			for i := range first {
+				c := first[(start+i)%len(first)]
+				if errno, place := Check(c.stamp); errno != c.errno || place != c.place {
+					t.Errorf("P2: Check(%.30q) = %d, %d, and %d, %d at first", c.stamp, errno, place, c.errno, c.place)
+				}
+			}
+		})
+	}
+	all.Wait()
+}
