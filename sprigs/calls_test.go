@@ -1,6 +1,7 @@
 package sprigs
 
 import (
+	"fmt"
 	"strings"
 	"sync"
 	"testing"
@@ -101,20 +102,35 @@ func TestAllCallsEnd(t *testing.T) {
 	}
 }
 
-func TestCheckHangsOnItsArgumentAlone(t *testing.T) {
-	texts := append(wrongStamps(), "1;0", "(1,0);(3,0,4)", "1;(0,0,0)", "1;01", "")
-	var first []checked
-	for _, text := range texts {
-		errno, place := Check(text)
-		first = append(first, checked{text, errno, place})
+// answers writes down what all calls answer to a text, and to it and another.
+func answers(text, other string) string {
+	errno, place := Check(text)
+	a, b, forked := Fork(text)
+	peek, peeked := Peek(text)
+	share, shared := Share(text)
+	event, counted := Event(text)
+	code, encoded := Encode(text)
+	join, joined := Join(text, other)
+	leq, compared := Leq(text, other)
+	return fmt.Sprint([]any{errno, place, a, b, forked, peek, peeked, share, shared, event, counted, code, encoded, join, joined, leq, compared})
+}
+
+// TestCallsHangOnTheirArgumentsAlone asks in another order, and at the same
+// time, and gets the same.
+func TestCallsHangOnTheirArgumentsAlone(t *testing.T) {
+	texts := append(wrongStamps(), "1;0", "(1,0);(3,0,4)", "(0,(1,0));(0,(0,2,0),1)", "((1,0),(0,1));(1,0,(0,0,5))", "1;(0,0,0)", "1;01", "")
+	other := func(i int) string { return texts[(i+1)%len(texts)] }
+	var first []string
+	for i, text := range texts {
+		first = append(first, answers(text, other(i)))
 	}
 	var all sync.WaitGroup
-	for start := range first {
+	for start := range texts {
 		all.Go(func() {
-			for i := range first {
-				c := first[(start+i)%len(first)]
-				if errno, place := Check(c.stamp); errno != c.errno || place != c.place {
-					t.Errorf("P2: Check(%.30q) = %d, %d, and %d, %d at first", c.stamp, errno, place, c.errno, c.place)
+			for n := range texts {
+				i := (start + n) % len(texts)
+				if got := answers(texts[i], other(i)); got != first[i] {
+					t.Errorf("P2: to %.30q: %s, and %s at first", texts[i], got, first[i])
 				}
 			}
 		})

@@ -3,7 +3,9 @@ package sprigs
 
 import (
 	"sprigs/api"
+	"sprigs/count"
 	"sprigs/fault"
+	"sprigs/piece"
 	"sprigs/text"
 	"sprigs/tree"
 )
@@ -15,37 +17,94 @@ func Check(stamp string) (api.Errno, int) {
 }
 
 // Fork makes two stamps of one (P4).
-func Fork(stamp string) (string, string, api.Errno) { return "", "", checkAll(stamp) }
+func Fork(stamp string) (string, string, api.Errno) {
+	s, errno, _ := read(stamp)
+	if errno != api.OK {
+		return "", "", errno
+	}
+	switch piece.Share(s.ID) {
+	case 0:
+		return "", "", api.ErrNone
+	case 1:
+		return "", "", api.ErrDeep
+	}
+	a, b := piece.Cut(s.ID)
+	return text.Write(tree.Stamp{ID: a, EV: s.EV}), text.Write(tree.Stamp{ID: b, EV: s.EV}), api.OK
+}
 
 // Peek makes one that holds nothing (P4).
-func Peek(stamp string) (string, api.Errno) { return "", checkAll(stamp) }
+func Peek(stamp string) (string, api.Errno) {
+	s, errno, _ := read(stamp)
+	if errno != api.OK {
+		return "", errno
+	}
+	return text.Write(tree.Stamp{ID: piece.None(), EV: s.EV}), api.OK
+}
 
 // Join makes one stamp of two (P4).
-func Join(a string, b string) (string, api.Errno) { return "", checkAll(a, b) }
+func Join(a string, b string) (string, api.Errno) {
+	s, t, errno := readTwo(a, b)
+	if errno != api.OK {
+		return "", errno
+	}
+	if piece.Clash(s.ID, t.ID) {
+		return "", api.ErrClash
+	}
+	return text.Write(tree.Stamp{ID: piece.Join(s.ID, t.ID), EV: count.Join(s.EV, t.EV)}), api.OK
+}
 
 // Share tells how much a stamp holds (P4).
-func Share(stamp string) (int, api.Errno) { return 0, checkAll(stamp) }
+func Share(stamp string) (int, api.Errno) {
+	s, errno, _ := read(stamp)
+	if errno != api.OK {
+		return 0, errno
+	}
+	return piece.Share(s.ID), api.OK
+}
 
 // Event counts on (P5).
-func Event(stamp string) (string, api.Errno) { return "", checkAll(stamp) }
+func Event(stamp string) (string, api.Errno) {
+	s, errno, _ := read(stamp)
+	if errno != api.OK {
+		return "", errno
+	}
+	if piece.Share(s.ID) == 0 {
+		return "", api.ErrNone
+	}
+	ev := count.Event(s.ID, s.EV)
+	if ev == nil {
+		return "", api.ErrCount
+	}
+	return text.Write(tree.Stamp{ID: s.ID, EV: ev}), api.OK
+}
 
 // Leq tells whether all that one stamp knows another one knows too (P6).
-func Leq(a string, b string) (bool, api.Errno) { return false, checkAll(a, b) }
+func Leq(a string, b string) (bool, api.Errno) {
+	s, t, errno := readTwo(a, b)
+	if errno != api.OK {
+		return false, errno
+	}
+	return count.AtMost(s.EV, t.EV), api.OK
+}
 
 // Encode makes bytes of a stamp (P7).
-func Encode(stamp string) (string, api.Errno) { return "", checkAll(stamp) }
+func Encode(stamp string) (string, api.Errno) {
+	errno, _ := Check(stamp)
+	return "", errno
+}
 
 // Decode makes a stamp of bytes (P7).
 func Decode(code string) (string, api.Errno, int) { return "", api.OK, 0 }
 
-// checkAll gives the error of the first stamp that has one.
-func checkAll(stamps ...string) api.Errno {
-	for _, stamp := range stamps {
-		if errno, _ := Check(stamp); errno != api.OK {
-			return errno
-		}
+// readTwo gives the stamps that two texts tell, or the first one's error ahead
+// of the second one's.
+func readTwo(a, b string) (s, t tree.Stamp, errno api.Errno) {
+	s, errno, _ = read(a)
+	if errno != api.OK {
+		return s, t, errno
 	}
-	return api.OK
+	t, errno, _ = read(b)
+	return s, t, errno
 }
 
 // read gives the stamp that a text tells, or the error and its place. Here

@@ -39,9 +39,48 @@ func (t *Tree[V]) IsLeaf() bool {
 	return t.Left == nil
 }
 
+// Halves gives the halves of a tree. Those of a leaf tell what it tells
+// itself, so it can stand in for both.
+func (t *Tree[V]) Halves() (left, right *Tree[V]) {
+	if t.IsLeaf() {
+		return t, t
+	}
+	return t.Left, t.Right
+}
+
+// Pairs tells how often a tree is halved.
+func (t *Tree[V]) Pairs() int {
+	if t.IsLeaf() {
+		return 0
+	}
+	return 1 + t.Left.Pairs() + t.Right.Pairs()
+}
+
+// SideBySide walks two trees over the same row of cells down to where both
+// are leaves. It gives what leaves makes of two of them, put together by
+// halves.
+func SideBySide[A, B, C any](a *Tree[A], b *Tree[B], leaves func(A, B) C, halves func(left, right C) C) C {
+	if a.IsLeaf() && b.IsLeaf() {
+		return leaves(a.Value, b.Value)
+	}
+	aLeft, aRight := a.Halves()
+	bLeft, bRight := b.Halves()
+	left := SideBySide(aLeft, bLeft, leaves, halves)
+	right := SideBySide(aRight, bRight, leaves, halves)
+	return halves(left, right)
+}
+
 // SameLeaves tells whether one leaf would do for two halves.
 func SameLeaves[V comparable](left, right *Tree[V]) bool {
 	return left.IsLeaf() && right.IsLeaf() && left.Value == right.Value
+}
+
+// Merge makes a tree of its two halves that is plain if they are.
+func Merge[V comparable](left, right *Tree[V]) *Tree[V] {
+	if SameLeaves(left, right) {
+		return left
+	}
+	return Pair(left, right)
 }
 
 // Highest gives the greatest number that a cell has.
@@ -50,4 +89,12 @@ func Highest(ev *EV) int64 {
 		return ev.Value
 	}
 	return max(Highest(ev.Left), Highest(ev.Right))
+}
+
+// Lowest gives the least number that a cell has.
+func Lowest(ev *EV) int64 {
+	if ev.IsLeaf() {
+		return ev.Value
+	}
+	return min(Lowest(ev.Left), Lowest(ev.Right))
 }

@@ -1,20 +1,77 @@
 package tree
 
-import "testing"
+import (
+	"slices"
+	"strconv"
+	"testing"
+)
 
-func TestHighest(t *testing.T) {
+func TestHighestAndLowest(t *testing.T) {
 	for _, c := range []struct {
-		ev   *EV
-		want int64
+		ev           *EV
+		most, fewest int64
 	}{
-		{Leaf[int64](0), 0},
-		{Leaf[int64](7), 7},
-		{Pair(Leaf[int64](2), Leaf[int64](9)), 9},
-		{Pair(Pair(Leaf[int64](2), Leaf[int64](11)), Leaf[int64](9)), 11},
+		{Leaf[int64](0), 0, 0},
+		{Leaf[int64](7), 7, 7},
+		{Pair(Leaf[int64](2), Leaf[int64](9)), 9, 2},
+		{Pair(Leaf[int64](9), Leaf[int64](2)), 9, 2},
+		{Pair(Pair(Leaf[int64](2), Leaf[int64](11)), Leaf[int64](9)), 11, 2},
+		{Pair(Leaf[int64](5), Pair(Leaf[int64](4), Leaf[int64](3))), 5, 3},
 	} {
-		if got := Highest(c.ev); got != c.want {
-			t.Errorf("Highest = %d, want %d", got, c.want)
+		if most, fewest := Highest(c.ev), Lowest(c.ev); most != c.most || fewest != c.fewest {
+			t.Errorf("Highest, Lowest = %d, %d, want %d, %d", most, fewest, c.most, c.fewest)
 		}
+	}
+}
+
+func TestPairs(t *testing.T) {
+	inner := Pair(Leaf(true), Leaf(false))
+	for _, c := range []struct {
+		id   *ID
+		want int
+	}{{Leaf(true), 0}, {inner, 1}, {Pair(inner, Leaf(true)), 2}, {Pair(inner, Pair(Leaf(true), inner)), 4}} {
+		if got := c.id.Pairs(); got != c.want {
+			t.Errorf("Pairs = %d, want %d", got, c.want)
+		}
+	}
+}
+
+func TestMergeKeepsPlain(t *testing.T) {
+	if got := Merge(Leaf(true), Leaf(true)); !got.IsLeaf() || !got.Value {
+		t.Errorf("Merge of two 1: %v", got)
+	}
+	left, right := Leaf(true), Leaf(false)
+	if got := Merge(left, right); got.Left != left || got.Right != right {
+		t.Errorf("Merge of 1 and 0: %v", got)
+	}
+	pair := Merge(left, right)
+	if got := Merge(pair, pair); got.IsLeaf() {
+		t.Errorf("Merge of two pairs: %v", got)
+	}
+}
+
+// TestSideBySide writes down what is met, and in which order it is put
+// together.
+func TestSideBySide(t *testing.T) {
+	leaves := func(own bool, number int64) string {
+		return strconv.FormatBool(own)[:1] + strconv.FormatInt(number, 10)
+	}
+	halves := func(left, right string) string { return "(" + left + " " + right + ")" }
+	one, none := Leaf(true), Leaf(false)
+	low, high := Leaf[int64](3), Leaf[int64](8)
+	var got []string
+	for _, id := range []*ID{one, Pair(one, none), Pair(none, Pair(one, none))} {
+		for _, ev := range []*EV{low, Pair(low, high), Pair(Pair(high, low), low)} {
+			got = append(got, SideBySide(id, ev, leaves, halves))
+		}
+	}
+	want := []string{
+		"t3", "(t3 t8)", "((t8 t3) t3)",
+		"(t3 f3)", "(t3 f8)", "((t8 t3) f3)",
+		"(f3 (t3 f3))", "(f3 (t8 f8))", "((f8 f3) (t3 f3))",
+	}
+	if !slices.Equal(got, want) {
+		t.Errorf("SideBySide = %q, want %q", got, want)
 	}
 }
 

@@ -1,4 +1,4 @@
-// Package text reads stamps that are written as texts.
+// Package text reads stamps from texts, and writes them.
 package text
 
 import (
