@@ -110,15 +110,16 @@ func answers(text, other string) string {
 	share, shared := Share(text)
 	event, counted := Event(text)
 	code, encoded := Encode(text)
+	stamp, decoded, at := Decode(text)
 	join, joined := Join(text, other)
 	leq, compared := Leq(text, other)
-	return fmt.Sprint([]any{errno, place, a, b, forked, peek, peeked, share, shared, event, counted, code, encoded, join, joined, leq, compared})
+	return fmt.Sprint([]any{errno, place, a, b, forked, peek, peeked, share, shared, event, counted, code, encoded, stamp, decoded, at, join, joined, leq, compared})
 }
 
 // TestCallsHangOnTheirArgumentsAlone asks in another order, and at the same
 // time, and gets the same.
 func TestCallsHangOnTheirArgumentsAlone(t *testing.T) {
-	texts := append(wrongStamps(), "1;0", "(1,0);(3,0,4)", "(0,(1,0));(0,(0,2,0),1)", "((1,0),(0,1));(1,0,(0,0,5))", "1;(0,0,0)", "1;01", "")
+	texts := append(wrongStamps(), "1;0", "(1,0);(3,0,4)", "(0,(1,0));(0,(0,2,0),1)", "((1,0),(0,1));(1,0,(0,0,5))", "1;(0,0,0)", "1;01", "", "\x50", "\x8d\x24", "\xaa", "\x40")
 	other := func(i int) string { return texts[(i+1)%len(texts)] }
 	var first []string
 	for i, text := range texts {

@@ -10,9 +10,9 @@ import (
 	"sprigs/api"
 )
 
-// rules are those of the section Texts, but for the bounds of depth and of
+// textRules are those of the section Texts, but for the bounds of depth and of
 // numbers: S a stamp, I an ID, E an EV, N a NUM, M its digits behind the first.
-func rules(symbol byte) []string {
+func textRules(symbol byte) []string {
 	switch symbol {
 	case 'S':
 		return []string{"I;E"}
@@ -28,34 +28,38 @@ func rules(symbol byte) []string {
 	return nil
 }
 
-// derives tells whether a text comes of symbols (whole), or is the beginning
+// rules give what may stand for a symbol; nothing, if it stands for itself.
+type rules func(symbol byte) []string
+
+// derive tells whether a text comes of symbols (whole), or is the beginning
 // of one that does.
-func derives(text, symbols string, whole bool) bool {
+func (r rules) derive(text, symbols string, whole bool) bool {
 	if text == "" && !whole {
 		return true
 	}
 	if symbols == "" {
 		return text == ""
 	}
-	if choices := rules(symbols[0]); choices != nil {
+	if choices := r(symbols[0]); choices != nil {
 		return slices.ContainsFunc(choices, func(choice string) bool {
-			return derives(text, choice+symbols[1:], whole)
+			return r.derive(text, choice+symbols[1:], whole)
 		})
 	}
-	return text != "" && text[0] == symbols[0] && derives(text[1:], symbols[1:], whole)
+	return text != "" && text[0] == symbols[0] && r.derive(text[1:], symbols[1:], whole)
 }
 
 func expectByGrammar(t *testing.T, text string) {
 	t.Helper()
 	errno, place := Check(text)
-	isStamp := derives(text, "S", true)
+	grammar := rules(textRules)
+	isStamp := grammar.derive(text, "S", true)
 	if errno != api.ErrText {
 		if !isStamp {
 			t.Errorf("P3: Check(%q) = %d, %d, but that is no stamp", text, errno, place)
 		}
 		return
 	}
-	if isStamp || !derives(text[:place], "S", false) || place < len(text) && derives(text[:place+1], "S", false) {
+	if isStamp || !grammar.derive(text[:place], "S", false) || place < len(text) && grammar.derive(text[:place+1], "S", false) {
 		t.Errorf("P3: Check(%q) = ErrText, %d, which is not the first wrong byte", text, place)
 	}
 }

@@ -5,6 +5,7 @@ import (
 	"sprigs/api"
 	"sprigs/count"
 	"sprigs/fault"
+	"sprigs/packed"
 	"sprigs/piece"
 	"sprigs/text"
 	"sprigs/tree"
@@ -89,12 +90,21 @@ func Leq(a string, b string) (bool, api.Errno) {
 
 // Encode makes bytes of a stamp (P7).
 func Encode(stamp string) (string, api.Errno) {
-	errno, _ := Check(stamp)
-	return "", errno
+	s, errno, _ := read(stamp)
+	if errno != api.OK {
+		return "", errno
+	}
+	return packed.Write(s), api.OK
 }
 
 // Decode makes a stamp of bytes (P7).
-func Decode(code string) (string, api.Errno, int) { return "", api.OK, 0 }
+func Decode(code string) (string, api.Errno, int) {
+	s, errno, place := catch(packed.Read, code)
+	if errno != api.OK {
+		return "", errno, place
+	}
+	return text.Write(s), api.OK, 0
+}
 
 // readTwo gives the stamps that two texts tell, or the first one's error ahead
 // of the second one's.
@@ -107,10 +117,15 @@ func readTwo(a, b string) (s, t tree.Stamp, errno api.Errno) {
 	return s, t, errno
 }
 
-// read gives the stamp that a text tells, or the error and its place. Here
+// read gives the stamp that a text tells, or the error and its place.
+func read(stamp string) (tree.Stamp, api.Errno, int) {
+	return catch(text.Read, stamp)
+}
+
+// catch gives the stamp that a reader makes, or the error and its place. Here
 // ends what is thrown deep inside. A thing that no reader throws would be a
 // mistake of the program: it goes on up, rather than pass for an answer.
-func read(stamp string) (s tree.Stamp, errno api.Errno, place int) {
+func catch(reader func(string) tree.Stamp, from string) (s tree.Stamp, errno api.Errno, place int) {
 	defer func() {
 		switch thrown := recover().(type) {
 		case nil:
@@ -120,5 +135,5 @@ func read(stamp string) (s tree.Stamp, errno api.Errno, place int) {
 			panic(thrown)
 		}
 	}()
-	return text.Read(stamp), api.OK, 0
+	return reader(from), api.OK, 0
 }

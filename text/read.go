@@ -59,8 +59,8 @@ func (r *reader) id(halvings int) *tree.ID {
 }
 
 // ev reads an EV whose row of cells can be halved so many times, and whose
-// cells have base more than it says. It gives the NUM in front as well: the
-// tree does not keep it, but whether the pair around is plain hangs on it.
+// cells have base more than it says. It gives the NUM in front as well, for
+// the pair around.
 func (r *reader) ev(halvings int, base int64) (*tree.EV, int64) {
 	if r.next() != '(' {
 		num := r.num()
@@ -73,7 +73,7 @@ func (r *reader) ev(halvings int, base int64) (*tree.EV, int64) {
 	r.pass(',')
 	right, rightNum := r.ev(halvings-1, base+num)
 	r.pass(')')
-	if leftNum > 0 && rightNum > 0 || tree.SameLeaves(left, right) {
+	if tree.RoughEVs(left, right, leftNum, rightNum) {
 		r.noteRough(place)
 	}
 	return tree.Pair(left, right), num

@@ -75,6 +75,12 @@ func SameLeaves[V comparable](left, right *Tree[V]) bool {
 	return left.IsLeaf() && right.IsLeaf() && left.Value == right.Value
 }
 
+// RoughEVs tells whether two EVs make a pair that is not plain. It hangs on the
+// NUMs that were read in front of them, which the trees do not keep.
+func RoughEVs(left, right *EV, leftNum, rightNum int64) bool {
+	return leftNum > 0 && rightNum > 0 || SameLeaves(left, right)
+}
+
 // Merge makes a tree of its two halves that is plain if they are.
 func Merge[V comparable](left, right *Tree[V]) *Tree[V] {
 	if SameLeaves(left, right) {

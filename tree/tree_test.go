@@ -93,3 +93,20 @@ func TestSameLeaves(t *testing.T) {
 		}
 	}
 }
+
+func TestRoughEVs(t *testing.T) {
+	three, five := Leaf[int64](3), Leaf[int64](5)
+	pair := Pair(three, five)
+	for _, c := range []struct {
+		left, right       *EV
+		leftNum, rightNum int64
+		want              bool
+	}{
+		{three, five, 0, 2, false}, {five, three, 2, 0, false}, {pair, three, 0, 0, false}, {pair, pair, 0, 0, false},
+		{three, five, 1, 3, true}, {pair, three, 1, 1, true}, {pair, pair, 1, 1, true}, {three, three, 0, 0, true},
+	} {
+		if got := RoughEVs(c.left, c.right, c.leftNum, c.rightNum); got != c.want {
+			t.Errorf("RoughEVs(%v, %v, %d, %d) = %v", c.left, c.right, c.leftNum, c.rightNum, got)
+		}
+	}
+}
